@@ -1,0 +1,1 @@
+"""Judgements about differences too small to notice."""

@@ -1,0 +1,28 @@
+"""Values of many kinds, of which tests take those that are not as described."""
+
+from barelybetter.books import Book
+
+BIG = 10 ** 39
+
+
+def deep(many):
+    """Return a list nested so many deep."""
+    value = []
+    for _ in range(many):
+        value = [value]
+    return value
+
+
+def values():
+    """Return values of many kinds: none is a list or a tuple of names or answers, but [] and ()."""
+    return [
+        None, True, False, 0, 1, -1, BIG, -BIG, "", "a", "tea", "milkmilk", "milkmilky", "Tea", "te a", "t1",
+        "~", "\t\n", b"", b"tea", [], (), {}, set(), frozenset(), [None], [1], [True], [[]], ["a", "a"], ("a", "a"),
+        ["a", 1], ["a", ""], ["abcdefghi"], [["a"]], [("a", "b", 1)], [("a", "b", 0)], [("a", "b", None)],
+        [("a", "a", True)], [["a", "b", True]], [("a", "b")], [("a", "b", True, True)], [("a", "", True)],
+        ("a", "b"), ("a", "b", 1), ("a", "b", 0), ("a", "b", "True"), ("a", "a", True), ("a", "a"), ("a",),
+        ("A", "b", True), ("a", "bbbbbbbbb", False), ("a", "b", True, False), ["a", "b", True], ["a", "b"],
+        (True, False), (1, 2), (("a", "b"), True), ([], []), ({}, set(), []), {"a": 1}, {"a": "b"}, {"a"}, {1: 2},
+        deep(39), Book([]), Book(["a", "b"], [("a", "b", True)]), Book, len, object(), range(3), ["a"] * 20000,
+        "a" * 20000,
+    ]

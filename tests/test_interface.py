@@ -1,0 +1,45 @@
+"""The interface: each name stands in its file, each method in its class itself."""
+
+import importlib
+import inspect
+import unittest
+
+# Of each file the functions, and the classes with their methods.
+FILES = {
+    "kinds": ("is_integer(thing)", "is_name(thing)", "is_pair(thing)", "is_answer(thing)", "pair_of(answer)",
+              "contrary(answer)", "mirrored(answer)", "ends_of(answer)"),
+    "books": ("Book(things, answers=())",),
+    "walks": ("is_walk(book, thing)", "weight_of(walk)", "things_through(walk)"),
+}
+
+METHODS = {
+    "books.Book": (
+        "__eq__", "__or__", "__and__", "__sub__", "__invert__", "__len__", "__contains__", "__iter__", "__getitem__",
+        "things(self)", "answers(self)", "untold(self)", "put(self, answer)", "out(self, answer)",
+        "only(self, things)", "renamed(self, names)", "within(self, other)"),
+}
+
+
+class InterfaceTest(unittest.TestCase):
+
+    def test_functions_and_classes(self):
+        for file, rows in FILES.items():
+            module = importlib.import_module("barelybetter." + file)
+            for row in rows:
+                one = getattr(module, row.partition("(")[0])
+                self.assertEqual(one.__module__, module.__name__)
+                self.assertEqual(one.__name__ + str(inspect.signature(one)), row)
+
+    def test_methods(self):
+        for place, rows in METHODS.items():
+            file, _, name = place.partition(".")
+            own = vars(getattr(importlib.import_module("barelybetter." + file), name))
+            for row in rows:
+                word, _, rest = row.partition("(")
+                self.assertIn(word, own)
+                if rest:
+                    self.assertEqual(word + str(inspect.signature(own[word])), row)
+
+
+if __name__ == "__main__":
+    unittest.main()
