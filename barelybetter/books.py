@@ -80,11 +80,7 @@ class Book:
 
     def __or__(self, other):
         # The answers of other ascend, so the first pair that they clash about is the least one.
-        pair = _first_clash(self._answers + other._answers)
-        if pair is not None:
-            raise Clash(pair)
-        things = sorted(set(self._things) | set(other._things))
-        return Book(things, self._answers + other._answers)
+        return Book(sorted(set(self._things) | set(other._things)), self._answers + other._answers)
 
     def __and__(self, other):
         things = sorted(set(self._things) & set(other._things))

@@ -13,6 +13,33 @@ STAGE_1 = """
 [[('milk', 'tea', True), ('tea', 'juice', False)], ['juice', 'milk', 'tea', 'wine']]
 """
 
+STAGE_2 = STAGE_1 + """
+>>> from barelybetter.heaviest import heaviest, heaviest_walk
+>>> from barelybetter.rings import ring_of
+>>> from barelybetter.walks import things_through
+>>> [heaviest(book, "tea", "milk"), heaviest(book, "tea", "juice"), heaviest(book, "milk", "tea"), heaviest(book, "milk", "milk")]
+[(1, 1), (-1, 0), None, (0, 0)]
+>>> worse = book.put(("milk", "juice", True)).put(("tea", "juice", False))
+>>> [ring_of(book), ring_of(worse), things_through(ring_of(worse))]
+[None, [('milk', 'juice', True), ('tea', 'juice', False), ('tea', 'milk', True)], ['milk', 'juice', 'tea', 'milk']]
+"""
+
+# Without the rows that speak of best.
+STAGE_3 = STAGE_2 + """
+>>> from barelybetter.ends import apart, follow, surely, why
+>>> from barelybetter.scales import Scale, moments, plainest
+>>> [plainest(book).worths(), plainest(book).step, plainest(book).fits(book)]
+[{'juice': 0, 'milk': 0, 'tea': 4}, 3, True]
+>>> [apart(book, "tea", "milk"), apart(book, "juice", "tea"), apart(book, "milk", "juice"), apart(book, "tea", "tea")]
+[((1, False), None), (None, (1, True)), (None, None), ((0, True), (0, True))]
+>>> [surely(book).answers(), why(book, ("milk", "tea", False))]
+[[('juice', 'tea', False), ('milk', 'tea', False), ('tea', 'milk', True)], [('tea', 'milk', True)]]
+>>> follow(book, ("milk", "juice", True))
+[('juice', 'milk', False), ('milk', 'juice', True), ('tea', 'juice', True)]
+>>> moments(Scale({"a": 0, "b": 4}, 3), Scale({"a": 2, "b": 0}, 1))
+[(1, 10, [('b', 'a')]), (7, 10, [('a', 'b')])]
+"""
+
 
 class ExamplesTest(unittest.TestCase):
 
@@ -25,6 +52,12 @@ class ExamplesTest(unittest.TestCase):
 
     def test_stage_1(self):
         self.holds(STAGE_1)
+
+    def test_stage_2(self):
+        self.holds(STAGE_2)
+
+    def test_stage_3(self):
+        self.holds(STAGE_3)
 
 
 if __name__ == "__main__":

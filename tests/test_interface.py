@@ -10,6 +10,11 @@ FILES = {
               "contrary(answer)", "mirrored(answer)", "ends_of(answer)"),
     "books": ("Book(things, answers=())",),
     "walks": ("is_walk(book, thing)", "weight_of(walk)", "things_through(walk)"),
+    "rings": ("ring_of(book)", "is_ring(book, thing)", "is_possible(book)"),
+    "heaviest": ("heaviest(book, x, y)", "heaviest_walk(book, x, y)"),
+    "scales": ("Scale(worths, step)", "plainest(book)", "moments(one, other)"),
+    "ends": ("apart(book, x, y)", "is_sure(book, answer)", "is_why(book, answer, thing)", "why(book, answer)",
+             "surely(book)", "open_pairs(book)", "follow(book, answer)"),
 }
 
 METHODS = {
@@ -17,6 +22,9 @@ METHODS = {
         "__eq__", "__or__", "__and__", "__sub__", "__invert__", "__len__", "__contains__", "__iter__", "__getitem__",
         "things(self)", "answers(self)", "untold(self)", "put(self, answer)", "out(self, answer)",
         "only(self, things)", "renamed(self, names)", "within(self, other)"),
+    "scales.Scale": (
+        "__eq__", "__add__", "__radd__", "__mul__", "__rmul__", "__neg__", "__getitem__", "step", "things(self)",
+        "worths(self)", "is_better(self, x, y)", "fits(self, book)", "full_book(self)"),
 }
 
 

@@ -24,7 +24,7 @@ DUNDERS = set(
 # What the rules allow in some places only, and the package does without.
 BARRED = (
     ast.GeneratorExp, ast.Yield, ast.YieldFrom, ast.Global, ast.Nonlocal, ast.AsyncFunctionDef, ast.Await, ast.With,
-    ast.Match, ast.NamedExpr, ast.AnnAssign, ast.Import, ast.Div, ast.MatMult, ast.Ellipsis)
+    ast.Match, ast.NamedExpr, ast.AnnAssign, ast.Import, ast.Div, ast.MatMult)
 
 
 def trees():
