@@ -1,7 +1,8 @@
 """Books: some things, and answers about pairs of them."""
 
 from barelybetter.errors import Clash, NoAnswer, NoPair, NoThing, Wrong
-from barelybetter.kinds import are_answers, are_names, is_answer, is_pair, mirrored, pair_of, pairs_among
+from barelybetter.kinds import (
+    are_answers, are_names, first_stranger, is_answer, is_pair, mirrored, pair_of, pairs_among)
 
 
 class Book:
@@ -12,7 +13,7 @@ class Book:
             raise Wrong(0)
         if not are_answers(answers):
             raise Wrong(1)
-        stranger = _first_stranger(things, answers)
+        stranger = first_stranger(things, [pair_of(answer) for answer in answers])
         if stranger is not None:
             raise NoThing(stranger)
         pair = _first_clash(answers)
@@ -91,16 +92,6 @@ class Book:
 
     def __invert__(self):
         return Book(self._things, [mirrored(answer) for answer in self._answers])
-
-
-def _first_stranger(things, answers):
-    """Return the first name in the answers that is none of the things, or None."""
-    known = set(things)
-    for answer in answers:
-        for name in pair_of(answer):
-            if name not in known:
-                return name
-    return None
 
 
 def _first_clash(answers):

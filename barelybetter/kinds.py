@@ -1,6 +1,5 @@
 """Integers, names, pairs and answers: what is one, and what it tells."""
 
-LETTERS = "abcdefghijklmnopqrstuvwxyz"
 LONGEST_NAME = 8
 
 
@@ -13,7 +12,7 @@ def is_name(thing):
     """Return whether any value is a name."""
     if not isinstance(thing, str) or not 1 <= len(thing) <= LONGEST_NAME:
         return False
-    return all([letter in LETTERS for letter in thing])
+    return thing.isascii() and thing.isalpha() and thing.islower()
 
 
 def is_pair(thing):
@@ -37,9 +36,24 @@ def are_names(thing):
     return all([is_name(name) for name in thing]) and len(set(thing)) == len(thing)
 
 
+def are_pairs(thing):
+    """Return whether any value is a list or a tuple of pairs."""
+    return isinstance(thing, (list, tuple)) and all([is_pair(pair) for pair in thing])
+
+
 def are_answers(thing):
     """Return whether any value is a list or a tuple of answers."""
     return isinstance(thing, (list, tuple)) and all([is_answer(answer) for answer in thing])
+
+
+def first_stranger(things, pairs):
+    """Return the first name in some pairs that is none of the things, or None."""
+    known = set(things)
+    for pair in pairs:
+        for name in pair:
+            if name not in known:
+                return name
+    return None
 
 
 def pairs_among(things):

@@ -1,8 +1,25 @@
-"""Values of many kinds, of which tests take those that are not as described."""
+"""Values of many kinds, of which tests take those that are not as described, and what they raise."""
 
 from barelybetter.books import Book
 
 BIG = 10 ** 39
+
+
+def caught(call, *given, **named):
+    """Return the error that a call raises."""
+    try:
+        call(*given, **named)
+    except ValueError as error:
+        return error
+    raise AssertionError("no error came")
+
+
+def are_things(value):
+    """Tell by other means whether a value is a list or a tuple of different names."""
+    if not isinstance(value, (list, tuple)):
+        return False
+    return all(isinstance(one, str) and 0 < len(one) < 9 and one.isascii() and one.isalpha() and one.islower()
+               for one in value) and len(value) == len(set(value))
 
 
 def deep(many):

@@ -25,6 +25,29 @@ def fitting(book):
             if all(((x, y) in table) == truth for x, y, truth in book.answers())]
 
 
+def best_lists(book):
+    """Return the different lists of the best things of the tables that fit a book, ascending."""
+    return sorted({tuple(x for x in book.things() if not any((y, x) in table for y in book.things()))
+                   for table in fitting(book)})
+
+
+def patterns(things, betters):
+    """Return all patterns of some pairs by the words of the document, ascending."""
+    found = []
+    for x, y, z, w in itertools.product(things, repeat=4):
+        if (x, y) in betters and (z, w) in betters and (x, w) not in betters and (z, y) not in betters:
+            found.append(("two", x, y, z, w))
+        if (x, y) in betters and (y, z) in betters and (x, w) not in betters and (w, z) not in betters:
+            found.append(("three", x, y, z, w))
+    return sorted(found)
+
+
+def walls(book, betters):
+    """Return the walls of a table, the betters of which are told, in a book, ascending."""
+    tables = set(fitting(book))
+    return [(x, y) for x in book.things() for y in book.things() if betters ^ {(x, y)} in tables]
+
+
 def answers_about(things):
     """Return all answers about some things, ascending."""
     return [(x, y, truth) for x in things for y in things if x != y for truth in (False, True)]
@@ -79,6 +102,39 @@ def least_why(book, answer, most):
     start, end, need = (x, y, 1) if truth else (y, x, -1)
     walks = [walk for walk in walks_between(book, start, end, most) if weight(walk)[0] >= need]
     return min(walks, key=lambda walk: (len(walk), walk), default=None)
+
+
+def drawn_worths(things, chance):
+    """Return worths that tell, with a step of 4, tables of all kinds."""
+    reach = chance.choice((4, 8, 12, 20))
+    return {thing: chance.randint(0, reach) for thing in things}
+
+
+def some_tables(things, many, seed):
+    """Return the betters of some tables, as sets."""
+    chance = random.Random(seed)
+    drawn = [drawn_worths(things, chance) for _ in range(many)]
+    return [frozenset((x, y) for x in things for y in things if worth[x] - worth[y] > 4) for worth in drawn]
+
+
+def some_pairs(things, many, seed):
+    """Return lists of different pairs of things, with patterns and without."""
+    chance = random.Random(seed)
+    pairs = [(x, y) for x in things for y in things if x != y]
+    found = []
+    for number, betters in enumerate(some_tables(things, many, seed)):
+        turned = set(chance.sample(pairs, min(len(pairs), number % 4)))
+        row = sorted(betters ^ turned)
+        chance.shuffle(row)
+        found.append(row)
+    return found
+
+
+def books_of(things, betters, many, seed):
+    """Return Books that a table fits, the betters of which are told, with few answers and with many."""
+    chance = random.Random(seed)
+    answers = [(x, y, (x, y) in betters) for x in things for y in things if x != y]
+    return [Book(things, chance.sample(answers, chance.randint(0, len(answers)))) for _ in range(many)]
 
 
 def all_books(things):

@@ -5,28 +5,12 @@ import unittest
 from barelybetter.books import Book
 from barelybetter.errors import Clash, NoAnswer, NoPair, NoThing, Wrong
 from tests import odd
+from tests.odd import are_things, caught
 
 AB = ("a", "b", True)
 BA = ("b", "a", False)
 BC = ("b", "c", True)
 NOT_AB = ("a", "b", False)
-
-
-def caught(call, *given):
-    """Return the error that a call raises."""
-    try:
-        call(*given)
-    except ValueError as error:
-        return error
-    raise AssertionError("no error came")
-
-
-def are_things(value):
-    """Tell by other means what may be the first argument of Book."""
-    if not isinstance(value, (list, tuple)):
-        return False
-    return all(isinstance(one, str) and 0 < len(one) < 9 and one.isascii() and one.isalpha() and one.islower()
-               for one in value) and len(value) == len(set(value))
 
 
 class BookBuildTest(unittest.TestCase):

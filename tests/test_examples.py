@@ -24,8 +24,8 @@ STAGE_2 = STAGE_1 + """
 [None, [('milk', 'juice', True), ('tea', 'juice', False), ('tea', 'milk', True)], ['milk', 'juice', 'tea', 'milk']]
 """
 
-# Without the rows that speak of best.
 STAGE_3 = STAGE_2 + """
+>>> from barelybetter.best import best_sets, possibly_best, surely_best
 >>> from barelybetter.ends import apart, follow, surely, why
 >>> from barelybetter.scales import Scale, moments, plainest
 >>> [plainest(book).worths(), plainest(book).step, plainest(book).fits(book)]
@@ -36,8 +36,33 @@ STAGE_3 = STAGE_2 + """
 [[('juice', 'tea', False), ('milk', 'tea', False), ('tea', 'milk', True)], [('tea', 'milk', True)]]
 >>> follow(book, ("milk", "juice", True))
 [('juice', 'milk', False), ('milk', 'juice', True), ('tea', 'juice', True)]
+>>> [surely_best(book), possibly_best(book), best_sets(book)]
+[['tea'], ['juice', 'tea'], [['juice', 'tea'], ['tea']]]
 >>> moments(Scale({"a": 0, "b": 4}, 3), Scale({"a": 2, "b": 0}, 1))
 [(1, 10, [('b', 'a')]), (7, 10, [('a', 'b')])]
+"""
+
+STAGE_4 = STAGE_3 + """
+>>> from barelybetter.orders import levels_of, longest_row, ranks_of
+>>> from barelybetter.tables import Table, only_table, patterns_of, table_of
+>>> table = Table(["a", "b", "c"], [("a", "c")])
+>>> [ranks_of(table), levels_of(table), longest_row(table), table["c", "a"], table ^ ~table]
+[[['a'], ['b'], ['c']], [['a', 'b'], ['c']], ['a', 'c'], False, [('a', 'c'), ('c', 'a')]]
+>>> patterns_of(["a", "b", "c"], [("a", "b"), ("b", "c")])
+[('three', 'a', 'b', 'c', 'a'), ('three', 'a', 'b', 'c', 'c'), ('two', 'a', 'b', 'b', 'c'), ('two', 'b', 'c', 'a', 'b')]
+>>> [table_of(Scale({"a": 2, "b": 1, "c": 0}, 1)) == table, only_table(book), only_table(table.full_book()) == table]
+[True, None, True]
+"""
+
+# Of stage 5 what speaks of walls alone.
+STAGE_5 = STAGE_4 + """
+>>> from barelybetter.walls import walls_of
+>>> free = Book(["a", "b", "c"])
+>>> walls_of(free, table)
+[('a', 'b'), ('a', 'c'), ('b', 'c')]
+>>> chain = Table(["a", "b", "c"], [("a", "b"), ("a", "c"), ("b", "c")])
+>>> walls_of(free, chain)
+[('a', 'b'), ('b', 'c')]
 """
 
 
@@ -58,6 +83,12 @@ class ExamplesTest(unittest.TestCase):
 
     def test_stage_3(self):
         self.holds(STAGE_3)
+
+    def test_stage_4(self):
+        self.holds(STAGE_4)
+
+    def test_stage_5(self):
+        self.holds(STAGE_5)
 
 
 if __name__ == "__main__":

@@ -15,6 +15,10 @@ FILES = {
     "scales": ("Scale(worths, step)", "plainest(book)", "moments(one, other)"),
     "ends": ("apart(book, x, y)", "is_sure(book, answer)", "is_why(book, answer, thing)", "why(book, answer)",
              "surely(book)", "open_pairs(book)", "follow(book, answer)"),
+    "best": ("best_of(scale)", "surely_best(book)", "possibly_best(book)", "best_sets(book)"),
+    "tables": ("patterns_of(things, betters)", "Table(things, betters)", "table_of(scale)", "only_table(book)"),
+    "orders": ("as_good(table, x, y)", "ranks_of(table)", "levels_of(table)", "longest_row(table)"),
+    "walls": ("walls_of(book, table)", "neighbours(book, table)", "turns_alone(book, table, pair)"),
 }
 
 METHODS = {
@@ -25,6 +29,9 @@ METHODS = {
     "scales.Scale": (
         "__eq__", "__add__", "__radd__", "__mul__", "__rmul__", "__neg__", "__getitem__", "step", "things(self)",
         "worths(self)", "is_better(self, x, y)", "fits(self, book)", "full_book(self)"),
+    "tables.Table": (
+        "__eq__", "__invert__", "__xor__", "__len__", "__iter__", "__getitem__", "things(self)", "betters(self)",
+        "full_book(self)", "fits(self, book)", "within(self, other)", "turned(self, pair)"),
 }
 
 

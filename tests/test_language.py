@@ -17,7 +17,7 @@ LIBRARY = {"heapq": {"heappush", "heappop", "heapify"}, "math": {"gcd", "lcm", "
 BUILTIN_METHODS = set(
     "append clear copy count endswith extend find get index insert isalnum isalpha isdigit islower isspace isupper items "
     "join keys ljust lower lstrip partition pop remove replace reverse rfind rjust rpartition rsplit rstrip setdefault "
-    "split splitlines startswith strip update upper values zfill bit_length add discard setter".split())
+    "split splitlines startswith strip update upper values zfill bit_length add discard setter isascii".split())
 DUNDERS = set(
     "__init__ __eq__ __len__ __iter__ __contains__ __getitem__ __setitem__ __or__ __and__ __xor__ __sub__ __add__ "
     "__radd__ __mul__ __rmul__ __neg__ __invert__".split())

@@ -1,0 +1,181 @@
+"""Tables: what some worths and a step say about all pairs of some things, and the patterns that none of them has."""
+
+from barelybetter.books import Book
+from barelybetter.ends import surely
+from barelybetter.errors import NoPair, NoTable, NoThing, Unlike, Wrong
+from barelybetter.kinds import are_names, are_pairs, first_stranger, is_pair, pairs_among
+
+
+class Table:
+    """Some things, and the pairs (x, y) of them in which x is better than y, as some worths tell them."""
+
+    def __init__(self, things, betters):
+        if not are_names(things):
+            raise Wrong(0)
+        if not are_pairs(betters):
+            raise Wrong(1)
+        stranger = first_stranger(things, betters)
+        if stranger is not None:
+            raise NoThing(stranger)
+        self._things = sorted(things)
+        self._betters = sorted(set(betters))
+        pattern = least_pattern(self._things, self._betters)
+        if pattern is not None:
+            raise NoTable(pattern)
+        self._is_better = {pair: True for pair in self._betters}
+
+    def things(self):
+        """Return the things, ascending."""
+        return list(self._things)
+
+    def betters(self):
+        """Return the pairs (x, y) in which x is better than y, ascending."""
+        return list(self._betters)
+
+    def full_book(self):
+        """Return the Book with the answer about each pair."""
+        return Book(self._things, [(x, y, self[x, y]) for x, y in pairs_among(self._things)])
+
+    def fits(self, book):
+        """Return whether a Book has the same things, and only answers that the table says."""
+        if self._things != book.things():
+            return False
+        return all([self[x, y] == truth for x, y, truth in book.answers()])
+
+    def turned(self, pair):
+        """Return the Table with the answer about one pair turned."""
+        if self[pair]:
+            return Table(self._things, [other for other in self._betters if other != pair])
+        return Table(self._things, self._betters + [pair])
+
+    def within(self, other):
+        """Return whether the other Table has the same things, and all these betters."""
+        if self._things != other._things:
+            return False
+        return all([other[pair] for pair in self._betters])
+
+    def __len__(self):
+        return len(self._betters)
+
+    def __iter__(self):
+        return iter(self._betters)
+
+    def __getitem__(self, at):
+        if not is_pair(at) or at[0] not in self._things or at[1] not in self._things:
+            raise NoPair(at)
+        return at in self._is_better
+
+    def __eq__(self, other):
+        return isinstance(other, Table) and self._things == other._things and self._betters == other._betters
+
+    def __invert__(self):
+        return Table(self._things, [(y, x) for x, y in self._betters])
+
+    def __xor__(self, other):
+        if self._things != other._things:
+            raise Unlike()
+        return [pair for pair in pairs_among(self._things) if self[pair] != other[pair]]
+
+
+def table_of(scale):
+    """Return the Table that a Scale tells."""
+    things = scale.things()
+    return Table(things, [(x, y) for x, y in pairs_among(things) if scale.is_better(x, y)])
+
+
+def only_table(book):
+    """Return the Table that fits a book, if it is the only one, or None."""
+    sure = surely(book)
+    if sure.untold():
+        return None
+    return Table(book.things(), [(x, y) for x, y, truth in sure.answers() if truth])
+
+
+def patterns_of(things, betters):
+    """Return all patterns of some pairs of things, ascending."""
+    better = {pair: True for pair in betters}
+    found = []
+    for x, y in better:
+        for z, w in better:
+            if (x, w) not in better and (z, y) not in better:
+                found.append(("two", x, y, z, w))
+        for z in things:
+            if (y, z) in better:
+                found.extend([("three", x, y, z, w) for w in things if (x, w) not in better and (w, z) not in better])
+    return sorted(found)
+
+
+def least_pattern(things, betters):
+    """Return the least pattern of some pairs of ascending things, or None; there may be many things."""
+    rows = rows_of(things, betters)
+    places = _least_three(rows)
+    if places is not None:
+        return ("three",) + tuple([things[place] for place in places])
+    places = _least_two(rows)
+    if places is not None:
+        return ("two",) + tuple([things[place] for place in places])
+    return None
+
+
+def rows_of(things, betters):
+    """Return for each thing an integer, the bits of which tell the places of the things than which it is better."""
+    places = {thing: place for place, thing in enumerate(things)}
+    rows = [0 for _ in things]
+    for x, y in betters:
+        rows[places[x]] = rows[places[x]] | (1 << places[y])
+    return rows
+
+
+def have_no_pattern(rows):
+    """Return whether rows of betters have none of the patterns."""
+    # Without "two" of each two rows one is within the other one, so that their order is that of integers.
+    ascending = sorted(rows)
+    if any([low & high != low for low, high in zip(ascending, ascending[1:])]):
+        return False
+    for row in rows:
+        inside = [other for place, other in enumerate(rows) if row >> place & 1]
+        outside = [other for place, other in enumerate(rows) if not row >> place & 1]
+        # With "three" a thing inside is better than one than which a thing outside is not.
+        if inside and max(inside) > min(outside):
+            return False
+    return True
+
+
+def _least_three(rows):
+    """Return the places of the least pattern "three", or None."""
+    for x, row in enumerate(rows):
+        outside = [place for place in range(len(rows)) if not row >> place & 1]
+        shared = _shared([rows[place] for place in outside])
+        for y in range(len(rows)):
+            # What y is better than, and some thing outside is not.
+            missed = rows[y] & ~shared
+            if row >> y & 1 and missed:
+                z = _lowest(missed)
+                return (x, y, z, [place for place in outside if not rows[place] >> z & 1][0])
+    return None
+
+
+def _least_two(rows):
+    """Return the places of the least pattern "two", or None."""
+    for x, row in enumerate(rows):
+        others = [place for place, other in enumerate(rows) if other & ~row]
+        # What x is better than, and one that is better than something else is not.
+        missed = row & ~_shared([rows[place] for place in others])
+        if missed:
+            y = _lowest(missed)
+            z = [place for place in others if not rows[place] >> y & 1][0]
+            return (x, y, z, _lowest(rows[z] & ~row))
+    return None
+
+
+def _shared(rows):
+    """Return the bits that all rows have; of no rows all bits."""
+    shared = -1
+    for row in rows:
+        shared = shared & row
+    return shared
+
+
+def _lowest(row):
+    """Return the lowest place of the bits of a row."""
+    return (row & -row).bit_length() - 1
