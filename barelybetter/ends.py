@@ -16,7 +16,7 @@ def apart(book, x, y):
 
 def is_sure(book, answer):
     """Return whether an answer is so for all worths that fit."""
-    return _is_told(heaviest_weights(book), answer)
+    return is_told(heaviest_weights(book), answer)
 
 
 def why(book, answer):
@@ -40,7 +40,7 @@ def surely(book):
     """Return the Book with all sure answers."""
     weights = heaviest_weights(book)
     answers = [(x, y, truth) for x, y in pairs_among(book.things()) for truth in (False, True)]
-    return Book(book.things(), [answer for answer in answers if _is_told(weights, answer)])
+    return Book(book.things(), [answer for answer in answers if is_told(weights, answer)])
 
 
 def open_pairs(book):
@@ -52,6 +52,12 @@ def follow(book, answer):
     """Return the answers that are sure with an answer more, and not without it, ascending."""
     ahead = surely(book)
     return (surely(book.put(answer)) - ahead).answers()
+
+
+def is_told(weights, answer):
+    """Return whether the greatest weights of walks make an answer sure."""
+    ends, steps = _need_of(answer)
+    return ends in weights and weights[ends][0] >= steps
 
 
 def _end_of(weight, sign):
@@ -68,9 +74,3 @@ def _need_of(answer):
     if truth:
         return ((x, y), 1)
     return ((y, x), -1)
-
-
-def _is_told(weights, answer):
-    """Return whether the greatest weights of walks make an answer sure."""
-    ends, steps = _need_of(answer)
-    return ends in weights and weights[ends][0] >= steps

@@ -54,15 +54,31 @@ STAGE_4 = STAGE_3 + """
 [True, None, True]
 """
 
-# Of stage 5 what speaks of walls alone.
 STAGE_5 = STAGE_4 + """
+>>> from barelybetter.pins import other_table, pin_why, pins_of
 >>> from barelybetter.walls import walls_of
+>>> from barelybetter.ways import count_ways, first_turns, way_between
 >>> free = Book(["a", "b", "c"])
->>> walls_of(free, table)
-[('a', 'b'), ('a', 'c'), ('b', 'c')]
+>>> [walls_of(free, table), pins_of(free, table)]
+[[('a', 'b'), ('a', 'c'), ('b', 'c')], [('a', 'b', False), ('a', 'c', True), ('b', 'c', False)]]
+>>> [pin_why(free, table, ("b", "a", False)), other_table(free, table, pins_of(free, table))]
+[[('a', 'c', True), ('b', 'c', False)], None]
 >>> chain = Table(["a", "b", "c"], [("a", "b"), ("a", "c"), ("b", "c")])
->>> walls_of(free, chain)
-[('a', 'b'), ('b', 'c')]
+>>> [walls_of(free, chain), count_ways(free, table, chain), first_turns(free, chain, ~chain)]
+[[('a', 'b'), ('b', 'c')], 2, [('a', 'b'), ('b', 'c')]]
+>>> [one.betters() for one in way_between(free, table, ~table)]
+[[('a', 'c')], [], [('c', 'a')]]
+"""
+
+STAGE_6 = STAGE_5 + """
+>>> from barelybetter.questions import best_question, fewest_questions, is_asking
+>>> from barelybetter.spaces import Space
+>>> space = Space(free)
+>>> [len(space), space.links(), space.counts(("a", "b")), space.farthest(), space.number(table)]
+[19, 30, (6, 13), 6, 7]
+>>> two = Book(["a", "b"])
+>>> [len(Space(two)), best_question(two), fewest_questions(two), is_asking(two, (("a", "b"), None, (("b", "a"), None, None)))]
+[3, ('a', 'b'), 2, True]
 """
 
 
@@ -89,6 +105,9 @@ class ExamplesTest(unittest.TestCase):
 
     def test_stage_5(self):
         self.holds(STAGE_5)
+
+    def test_stage_6(self):
+        self.holds(STAGE_6)
 
 
 if __name__ == "__main__":

@@ -19,6 +19,13 @@ FILES = {
     "tables": ("patterns_of(things, betters)", "Table(things, betters)", "table_of(scale)", "only_table(book)"),
     "orders": ("as_good(table, x, y)", "ranks_of(table)", "levels_of(table)", "longest_row(table)"),
     "walls": ("walls_of(book, table)", "neighbours(book, table)", "turns_alone(book, table, pair)"),
+    "pins": ("pins_of(book, table)", "pin_why(book, table, answer)", "pins_down(book, table, answers)",
+             "other_table(book, table, answers)"),
+    "ways": ("way_between(book, one, other)", "first_turns(book, one, other)", "is_way(book, one, other, thing)",
+             "count_ways(book, one, other)"),
+    "spaces": ("Space(book, *, most=400)",),
+    "questions": ("best_question(book, *, most=400)", "fewest_questions(book, *, most=20)",
+                  "asking(book, *, most=20)", "is_asking(book, thing)"),
 }
 
 METHODS = {
@@ -32,6 +39,9 @@ METHODS = {
     "tables.Table": (
         "__eq__", "__invert__", "__xor__", "__len__", "__iter__", "__getitem__", "things(self)", "betters(self)",
         "full_book(self)", "fits(self, book)", "within(self, other)", "turned(self, pair)"),
+    "spaces.Space": (
+        "__len__", "__contains__", "__iter__", "__getitem__", "book", "listed(self)", "between(self, one, other)",
+        "number(self, table)", "links(self)", "farthest(self)", "counts(self, pair)"),
 }
 
 
