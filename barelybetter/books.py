@@ -23,6 +23,7 @@ class Book:
         self._things = sorted(things)
         self._truths = truths
         self._answers = [(x, y, truths[x, y]) for x, y in sorted(truths)]
+        self._kept = {}
 
     def things(self):
         """Return the things, ascending."""
@@ -61,6 +62,18 @@ class Book:
     def within(self, other):
         """Return whether all things and answers stand in the other Book, too."""
         return len(set(self._things) - set(other._things)) == 0 and len(self - other) == 0
+
+    def keep(self, word, found):
+        """Keep under a word what was found out about this Book: it never changes, so that this holds for good."""
+        self._kept[word] = found
+
+    def keeps(self, word):
+        """Return whether something was kept under a word."""
+        return word in self._kept
+
+    def kept(self, word):
+        """Return what was kept under a word; it is not to be changed."""
+        return self._kept[word]
 
     def __len__(self):
         return len(self._answers)

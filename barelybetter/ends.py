@@ -3,7 +3,7 @@
 from barelybetter.books import Book
 from barelybetter.heaviest import heaviest_weights
 from barelybetter.kinds import pairs_among
-from barelybetter.layers import fewest_walk, layers_of
+from barelybetter.layers import fewest_walk
 from barelybetter.rings import refuse_ring
 from barelybetter.walks import is_walk, things_through, weight_of
 
@@ -23,7 +23,7 @@ def why(book, answer):
     """Return the least of the walks of the fewest answers that make an answer sure, or None."""
     refuse_ring(book)
     ends, steps = _need_of(answer)
-    return fewest_walk(book, layers_of(book), ends, steps)
+    return fewest_walk(book, ends, steps)
 
 
 def is_why(book, answer, thing):

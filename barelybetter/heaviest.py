@@ -1,7 +1,7 @@
 """The greatest weights of walks, and the walks that have them."""
 
 from barelybetter.kinds import ends_of
-from barelybetter.layers import layers_of, least_walk
+from barelybetter.layers import least_walk, weights_of
 from barelybetter.rings import refuse_ring
 
 
@@ -16,19 +16,13 @@ def heaviest_walk(book, x, y):
     if weight is None:
         return None
     steps, betters = weight
-    return least_walk(book, layers_of(book), betters + (betters - steps), (x, y), steps)
+    return least_walk(book, betters + (betters - steps), (x, y), steps)
 
 
 def heaviest_weights(book):
-    """Return the greatest weights of walks by their ends."""
+    """Return the greatest weights of walks by their ends, which the book keeps: they are only read."""
     refuse_ring(book)
-    found = {}
-    for many, layer in enumerate(layers_of(book)):
-        for ends in layer:
-            # Of walks of equally many answers that with the most steps has the most betters, too.
-            weight = (layer[ends], (many + layer[ends]) // 2)
-            found[ends] = max(weight, found.get(ends, weight))
-    return found
+    return weights_of(book)
 
 
 def weights_with(weights, answer):

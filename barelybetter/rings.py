@@ -1,18 +1,15 @@
 """Rings: walks round that show that no worths fit."""
 
 from barelybetter.errors import Ring
-from barelybetter.layers import layers_of, least_walk
+from barelybetter.layers import least_ring, weights_of
 from barelybetter.walks import is_walk, things_through, weight_of
 
 
 def ring_of(book):
     """Return the least of the rings of the fewest answers, or None."""
-    layers = layers_of(book)
-    for many in range(1, len(layers)):
-        rounds = [(thing, thing) for thing in book.things() if layers[many].get((thing, thing), -1) >= 0]
-        if rounds:
-            return min([least_walk(book, layers, many, ends, 0) for ends in rounds])
-    return None
+    if is_possible(book):
+        return None
+    return list(least_ring(book))
 
 
 def is_ring(book, thing):
@@ -25,11 +22,10 @@ def is_ring(book, thing):
 
 def is_possible(book):
     """Return whether some worths fit a book."""
-    return ring_of(book) is None
+    return weights_of(book) is not None
 
 
 def refuse_ring(book):
     """Raise Ring with the ring of a book that is not possible."""
-    ring = ring_of(book)
-    if ring is not None:
-        raise Ring(ring)
+    if not is_possible(book):
+        raise Ring(ring_of(book))
