@@ -3,8 +3,9 @@
 import unittest
 
 from barelybetter.books import Book
+from barelybetter.ends import open_pairs
 from barelybetter.errors import Ring
-from barelybetter.heaviest import heaviest, heaviest_walk
+from barelybetter.heaviest import heaviest, heaviest_walk, heaviest_weights, weights_with
 from barelybetter.rings import is_possible, ring_of
 from barelybetter.walks import is_walk, weight_of
 from tests import oracle
@@ -76,6 +77,16 @@ class HeaviestTest(unittest.TestCase):
                 self.assertLessEqual(heaviest(book, x, y)[0] * 4, worth[x] - worth[y])
         # f over d, d over b, a step back from b to c, c over a.
         self.assertEqual(heaviest(book, "f", "a"), (2, 3))
+
+    def test_weights_with_an_answer_more(self):
+        for book in oracle.all_books(["a", "b", "c"])[::3] + oracle.some_books(["a", "b", "c", "d", "e", "f"], 10, 104):
+            if is_possible(book):
+                weights = heaviest_weights(book)
+                for x, y in open_pairs(book):
+                    for truth in (True, False):
+                        more = heaviest_weights(book.put((x, y, truth)))
+                        self.assertEqual(weights_with(weights, (x, y, truth)), more)
+                self.assertEqual(weights, heaviest_weights(Book(book.things(), book.answers())))
 
     def test_ring(self):
         book = Book(["a", "b", "c"], [("a", "b", True), ("b", "a", True)])

@@ -150,6 +150,10 @@ class QuestionsTest(unittest.TestCase):
         for bad in (None, (AB, None, None), (AB, (BA, None, None), None), (AB, (BA, None, None), (BA, None, None)),
                     (AB, None, (AB, None, None)), (AB, None, (BA, None, (AB, None, None))), (AB, (AB, None, None), None)):
             self.assertIs(is_asking(TWO, bad), False)
+        # Things that are none of the book are not asked about, even where nothing would come of it.
+        for pair in (("a", "zz"), ("zz", "a"), ("y", "zz"), ("a", "a")):
+            self.assertIs(is_asking(Book(["a"]), (pair, None, None)), False)
+            self.assertIs(is_asking(TWO, (pair, tree, tree)), False)
         # There need not be few tables.
         self.assertIs(is_asking(Book(SIX), None), False)
         self.assertIs(is_asking(Book(SIX), tree), False)
