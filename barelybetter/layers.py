@@ -112,7 +112,7 @@ def _least_walk(book, layers, ends, steps):
     here, last = ends
     outs = _outs_of(book)
     walk = []
-    for layer in reversed(layers):
+    for layer in reversed(list(layers)):
         here, step, answer = _least_answer(outs[here], layer, last, steps)
         walk.append(answer)
         steps = steps - step

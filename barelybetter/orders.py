@@ -36,7 +36,7 @@ def longest_row(table):
     # In the table turned about the level of a thing tells how many can stand behind it.
     levels = levels_of(~table)
     row = []
-    for level in reversed(levels):
+    for level in reversed(list(levels)):
         row.append([thing for thing in level if len(row) == 0 or table[row[-1], thing]][0])
     return row
 

@@ -130,6 +130,15 @@ class LanguageTest(unittest.TestCase):
                 side = node.comparators[0]
                 self.assertTrue(isinstance(side, ast.Constant) and side.value in (None, True, False), place)
 
+    def test_reversed(self):
+        # Classes of the package have `[ ]`, so that it takes only what is plainly no object of theirs.
+        for place, node in nodes(ast.Call):
+            if isinstance(node.func, ast.Name) and node.func.id == "reversed":
+                given = node.args[0]
+                named = isinstance(given, ast.Call) and getattr(given.func, "id", None)
+                self.assertTrue(named in ("list", "tuple", "sorted", "range") or isinstance(given, (ast.List, ast.Tuple)),
+                                place)
+
     def test_constants(self):
         for place, node in nodes(ast.Constant):
             self.assertNotIsInstance(node.value, (float, complex), place)
