@@ -2,7 +2,7 @@
 
 from barelybetter.errors import Clash, NoAnswer, NoPair, NoThing, Wrong
 from barelybetter.kinds import (
-    are_answers, are_names, first_stranger, is_answer, is_pair, mirrored, pair_of, pairs_among)
+    are_answers, are_names, contrary, first_stranger, is_answer, is_pair, mirrored, pair_of, pairs_among)
 
 
 class Book:
@@ -16,14 +16,17 @@ class Book:
         stranger = first_stranger(things, [pair_of(answer) for answer in answers])
         if stranger is not None:
             raise NoThing(stranger)
-        pair = _first_clash(answers)
-        if pair is not None:
-            raise Clash(pair)
-        truths = {pair_of(answer): answer[2] for answer in answers}
+        truths = {}
+        for answer in answers:
+            pair, truth = pair_of(answer), answer[2]
+            if truths.get(pair, truth) != truth:
+                raise Clash(pair)
+            truths[pair] = truth
         self._things = sorted(things)
         self._truths = truths
         self._answers = [(x, y, truths[x, y]) for x, y in sorted(truths)]
-        self._kept = {}
+        # What functions worked out for this Book, under a word for each: it never changes, so that this holds for good.
+        self.kept = {}
 
     def things(self):
         """Return the things, ascending."""
@@ -41,18 +44,26 @@ class Book:
         """Return the Book with an answer more."""
         if not is_answer(answer):
             raise Wrong(0)
-        return Book(self._things, self._answers + [answer])
+        stranger = first_stranger(self._things, [pair_of(answer)])
+        if stranger is not None:
+            raise NoThing(stranger)
+        if contrary(answer) in self:
+            raise Clash(pair_of(answer))
+        if answer in self:
+            return known_book(self._things, self._answers)
+        return known_book(self._things, sorted(self._answers + [answer]))
 
     def out(self, answer):
         """Return the Book without one of its answers."""
         if answer not in self:
             raise NoAnswer(answer)
-        return Book(self._things, [other for other in self._answers if other != answer])
+        return known_book(self._things, [other for other in self._answers if other != answer])
 
     def only(self, things):
         """Return the Book of some of the things and the answers between them."""
-        kept = {thing: True for thing in things}
-        return Book(things, [answer for answer in self._answers if answer[0] in kept and answer[1] in kept])
+        chosen = {thing: True for thing in things}
+        answers = [answer for answer in self._answers if answer[0] in chosen and answer[1] in chosen]
+        return known_book(sorted(things), answers)
 
     def renamed(self, names):
         """Return the Book with other names for its things."""
@@ -62,18 +73,6 @@ class Book:
     def within(self, other):
         """Return whether all things and answers stand in the other Book, too."""
         return len(set(self._things) - set(other._things)) == 0 and len(self - other) == 0
-
-    def keep(self, word, found):
-        """Keep under a word what was found out about this Book: it never changes, so that this holds for good."""
-        self._kept[word] = found
-
-    def keeps(self, word):
-        """Return whether something was kept under a word."""
-        return word in self._kept
-
-    def kept(self, word):
-        """Return what was kept under a word; it is not to be changed."""
-        return self._kept[word]
 
     def __len__(self):
         return len(self._answers)
@@ -107,12 +106,13 @@ class Book:
         return Book(self._things, [mirrored(answer) for answer in self._answers])
 
 
-def _first_clash(answers):
-    """Return the pair of the first answer that contradicts one ahead of it, or None."""
-    truths = {}
-    for answer in answers:
-        pair = pair_of(answer)
-        if pair in truths and truths[pair] != answer[2]:
-            return pair
-        truths[pair] = answer[2]
-    return None
+def known_book(things, answers):
+    """Return the Book of ascending lists, which are not changed later, of things and of answers that do not clash.
+
+    Nothing is checked, so that it is made sooner than by what anybody may pass in.
+    """
+    book = Book(())
+    book._things = things
+    book._truths = {(x, y): truth for x, y, truth in answers}
+    book._answers = answers
+    return book

@@ -1,8 +1,8 @@
 """Pins: the answers that pin a table down in a book."""
 
-from barelybetter.books import Book
-from barelybetter.ends import why
-from barelybetter.walls import walls_of
+from barelybetter.books import known_book
+from barelybetter.layers import fewest_walk, need_of
+from barelybetter.walls import refuse_unfit, walls_of
 
 
 def pins_of(book, table):
@@ -25,4 +25,15 @@ def other_table(book, table, answers):
 
 def pin_why(book, table, answer):
     """Return the least of the walks of the fewest answers of the book and of the pins that make an answer sure."""
-    return why(book | Book(book.things(), pins_of(book, table)), answer)
+    refuse_unfit(book, [table])
+    ends, steps = need_of(answer)
+    return fewest_walk(_pinned(book, table), ends, steps)
+
+
+def _pinned(book, table):
+    """Return the Book of the answers of a book and of the pins of a table, which is kept for the last book asked."""
+    answers = book.answers()
+    if "pinned" not in table.kept or table.kept["pinned"][0] != answers:
+        found = sorted(answers + pins_of(book, table))
+        table.kept["pinned"] = (answers, known_book(table.things(), found))
+    return table.kept["pinned"][1]

@@ -1,23 +1,24 @@
 """Questions: which pair to ask about, and how many of them have to be asked until one table is left."""
 
-from barelybetter.ends import is_told, open_pairs
-from barelybetter.heaviest import heaviest_weights, weights_with
-from barelybetter.kinds import is_pair, pairs_among
-from barelybetter.spaces import grids_of
-from barelybetter.walls import bits_of
+from barelybetter.ends import codes_with, is_told, open_pairs, sure_answers
+from barelybetter.grids import grid_with
+from barelybetter.kinds import is_pair
+from barelybetter.layers import codes_of
+from barelybetter.rings import refuse_ring
+from barelybetter.spaces import turns_by_grid
 
 
 def best_question(book, *, most=400):
     """Return the open pair of which the commoner answer leaves the fewest tables, or None."""
-    grids = grids_of(book, most)
-    bits = bits_of(book.things())
-    found = []
-    for pair in open_pairs(book):
-        better = len([grid for grid in grids if grid & bits[pair]])
-        found.append((max(better, len(grids) - better), pair))
-    if len(found) == 0:
-        return None
-    return min(found)[1]
+    grids = list(turns_by_grid(book, most))
+    if "question" not in book.kept:
+        found = []
+        for pair in open_pairs(book):
+            bit = grid_with(book.things(), [pair])
+            better = len([grid for grid in grids if grid & bit])
+            found.append((max(better, len(grids) - better), pair))
+        book.kept["question"] = min(found, default=(0, None))[1]
+    return book.kept["question"]
 
 
 def fewest_questions(book, *, most=20):
@@ -32,16 +33,21 @@ def asking(book, *, most=20):
 
 def is_asking(book, thing):
     """Return whether any value is an asking of a book."""
-    return _is_asking(book.things(), heaviest_weights(book), thing)
+    refuse_ring(book)
+    return _is_asking(book.things(), codes_of(book), thing)
 
 
 def _least_asking(book, most):
     """Return the least depth of an asking of a book, and an asking of this depth."""
-    grids = grids_of(book, most)
-    bits = bits_of(book.things())
-    # Some of the tables are kept as an integer: its bit k tells whether table k is one of them.
-    sides = {pair: sum([1 << k for k, grid in enumerate(grids) if grid & bits[pair]]) for pair in open_pairs(book)}
-    return _least_plan((1 << len(grids)) - 1, sides, {})
+    grids = list(turns_by_grid(book, most))
+    if "asking" not in book.kept:
+        # Some of the tables are told by an integer: its bit k tells whether table k is one of them.
+        sides = {}
+        for pair in open_pairs(book):
+            bit = grid_with(book.things(), [pair])
+            sides[pair] = sum([1 << k for k, grid in enumerate(grids) if grid & bit])
+        book.kept["asking"] = _least_plan((1 << len(grids)) - 1, sides, {})
+    return book.kept["asking"]
 
 
 def _least_plan(left, sides, found):
@@ -60,21 +66,15 @@ def _least_plan(left, sides, found):
     return found[left]
 
 
-def _is_asking(things, weights, thing):
-    """Return whether any value is an asking of the book that has these greatest weights."""
+def _is_asking(things, codes, thing):
+    """Return whether any value is an asking of the book that has these codes of greatest weights."""
     if thing is None:
-        return not any([_is_open(weights, pair) for pair in pairs_among(things)])
+        return len(sure_answers(things, codes)) == len(things) * (len(things) - 1)
     if not isinstance(thing, tuple) or len(thing) != 3 or not is_pair(thing[0]):
         return False
     x, y = thing[0]
-    if x not in things or y not in things or not _is_open(weights, thing[0]):
+    if x not in things or y not in things or is_told(things, codes, (x, y)):
         return False
-    if not _is_asking(things, weights_with(weights, (x, y, True)), thing[1]):
+    if not _is_asking(things, codes_with(codes, things, (x, y, True)), thing[1]):
         return False
-    return _is_asking(things, weights_with(weights, (x, y, False)), thing[2])
-
-
-def _is_open(weights, pair):
-    """Return whether neither answer about a pair is sure."""
-    x, y = pair
-    return not is_told(weights, (x, y, True)) and not is_told(weights, (x, y, False))
+    return _is_asking(things, codes_with(codes, things, (x, y, False)), thing[2])

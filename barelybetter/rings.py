@@ -1,7 +1,7 @@
 """Rings: walks round that show that no worths fit."""
 
 from barelybetter.errors import Ring
-from barelybetter.layers import least_ring, weights_of
+from barelybetter.layers import codes_of, least_ring
 from barelybetter.walks import is_walk, things_through, weight_of
 
 
@@ -22,7 +22,7 @@ def is_ring(book, thing):
 
 def is_possible(book):
     """Return whether some worths fit a book."""
-    return weights_of(book) is not None
+    return codes_of(book) is not None
 
 
 def refuse_ring(book):

@@ -2,9 +2,10 @@
 
 from math import gcd, lcm
 
-from barelybetter.books import Book
+from barelybetter.books import known_book
 from barelybetter.errors import NoThing, Unlike, Wrong
-from barelybetter.kinds import ends_of, is_integer, is_name, pairs_among
+from barelybetter.kinds import is_integer, is_name, pairs_among
+from barelybetter.layers import NOWHERE, codes_of, weight_of_code
 from barelybetter.rings import refuse_ring
 
 
@@ -38,7 +39,7 @@ class Scale:
 
     def full_book(self):
         """Return the Book with an answer about each pair."""
-        return Book(self.things(), [(x, y, self.is_better(x, y)) for x, y in pairs_among(self.things())])
+        return known_book(self.things(), [(x, y, self.is_better(x, y)) for x, y in pairs_among(self.things())])
 
     def fits(self, book):
         """Return whether the worths and the step fit a Book."""
@@ -76,14 +77,13 @@ class Scale:
 def plainest(book):
     """Return the Scale with the least worths that fit a book by the step of its number of things."""
     refuse_ring(book)
-    step = max(1, len(book.things()))
-    worths = {thing: 0 for thing in book.things()}
-    # Without a ring no worth rises by a way round, so it is settled by as many rounds as there are things.
-    for _ in book.things():
-        for answer in book:
-            start, end = ends_of(answer)
-            gain = step + 1 if answer[2] else -step
-            worths[start] = max(worths[start], worths[end] + gain)
+    things = book.things()
+    step = max(1, len(things))
+    worths = {}
+    # A walk holds up its start by a step for each of its steps, and by one more for each better.
+    for thing, row in zip(things, codes_of(book)):
+        weights = [weight_of_code(code, len(things)) for code in row if code != NOWHERE]
+        worths[thing] = max([steps * step + betters for steps, betters in weights])
     return Scale(worths, step)
 
 

@@ -1,22 +1,21 @@
 """Spaces: all tables that fit a book, and how they hang together."""
 
-from barelybetter.ends import open_pairs
 from barelybetter.errors import NoNumber, TooMany, Unfit
+from barelybetter.grids import bit_places, count_of, grid_with, rows_in, told_grid, turns_of
 from barelybetter.kinds import is_integer
+from barelybetter.rings import refuse_ring
 from barelybetter.scales import plainest
-from barelybetter.tables import Table, table_of
-from barelybetter.walls import bits_of, grid_of, is_grid
+from barelybetter.tables import Table, known_table, table_of
 
 
 class Space:
     """All tables that fit a book."""
 
     def __init__(self, book, *, most=400):
-        things, bits = book.things(), bits_of(book.things())
-        rows = sorted([[pair for pair in bits if grid & bits[pair]] for grid in grids_of(book, most)])
+        self._turns = turns_by_grid(book, most)
         self._book = book
-        self._tables = [Table(things, betters) for betters in rows]
-        self._numbers = {grid_of(table): number for number, table in enumerate(self._tables)}
+        self._tables = _tables_of(book, list(self._turns))
+        self._numbers = {table.grid(): number for number, table in enumerate(self._tables)}
 
     @property
     def book(self):
@@ -31,27 +30,27 @@ class Space:
         """Return the index of a Table."""
         if table not in self:
             raise Unfit()
-        return self._numbers[grid_of(table)]
+        return self._numbers[table.grid()]
 
     def links(self):
         """Return how many sets of two tables say otherwise about just one pair."""
-        bits = bits_of(self._book.things())
-        return len([grid for grid in self._numbers for pair in bits
-                    if grid & bits[pair] and grid ^ bits[pair] in self._numbers])
+        return sum([count_of(self._turns[grid]) for grid in self._turns]) // 2
 
     def counts(self, pair):
         """Return in how many tables x is better than y, and in how many it is not."""
-        better = len([table for table in self._tables if table[pair]])
+        bit = grid_with(self._book.things(), [pair])
+        better = len([grid for grid in self._numbers if grid & bit])
         return (better, len(self._tables) - better)
 
     def farthest(self):
         """Return the greatest number of pairs about which two tables say otherwise."""
-        grids = list(self._numbers)
-        return max([_count_of(one ^ other) for at, one in enumerate(grids) for other in grids[at:]])
+        if "farthest" not in self._book.kept:
+            self._book.kept["farthest"] = _farthest(list(self._numbers))
+        return self._book.kept["farthest"]
 
     def between(self, one, other):
         """Return the tables that stand in some way from one table to the other one."""
-        start, unlike = grid_of(one), grid_of(one) ^ grid_of(other)
+        start, unlike = one.grid(), one.grid() ^ other.grid()
         # Straight ways lead through all tables that say whatever both say [6].
         return [self._tables[number] for grid, number in self._numbers.items() if (grid ^ start) & ~unlike == 0]
 
@@ -64,7 +63,7 @@ class Space:
     def __contains__(self, x):
         if not isinstance(x, Table) or x.things() != self._book.things():
             return False
-        return grid_of(x) in self._numbers
+        return grid_with(x.things(), x.betters()) in self._numbers
 
     def __getitem__(self, at):
         if not is_integer(at) or not 0 <= at < len(self._tables):
@@ -72,25 +71,74 @@ class Space:
         return self._tables[at]
 
 
-def grids_of(book, most):
-    """Return the grids of all tables that fit a book; raise TooMany if there are more than most."""
-    bits = bits_of(book.things())
-    turns = [bits[pair] for pair in open_pairs(book)]
-    first = grid_of(table_of(plainest(book)))
-    found = {first: True}
-    waiting = [first]
+def turns_by_grid(book, most):
+    """Return for the grid of each table that fits a book that of its walls; raise TooMany if there are more than most.
+
+    The book keeps it: it is not to be changed.
+    """
+    refuse_ring(book)
+    if "turns" not in book.kept and book.kept.get("more", 0) < most:
+        _gather(book, most)
+    if "turns" not in book.kept or len(book.kept["turns"]) > most:
+        raise TooMany(most)
+    return book.kept["turns"]
+
+
+def _gather(book, most):
+    """Let a book keep the walls of its tables by their grids, or that it has more of them than most."""
+    many, told = len(book.things()), told_grid(book)
+    first = table_of(plainest(book)).grid()
+    found, waiting = {first: 0}, [first]
     # Single turned answers lead from each table to all others [6].
     while waiting:
         grid = waiting.pop()
-        for bit in turns:
-            if grid ^ bit not in found and is_grid(len(book.things()), grid ^ bit):
+        found[grid] = left = turns_of(rows_in(grid, many)) & ~told
+        while left:
+            turned = grid ^ (left & -left)
+            left = left & (left - 1)
+            if turned not in found:
                 if len(found) == most:
-                    raise TooMany(most)
-                found[grid ^ bit] = True
-                waiting.append(grid ^ bit)
-    return list(found)
+                    book.kept["more"] = most
+                    return
+                found[turned] = 0
+                waiting.append(turned)
+    book.kept["turns"] = found
 
 
-def _count_of(grid):
-    """Return how many bits a grid has."""
-    return f"{grid:b}".count("1")
+def _tables_of(book, grids):
+    """Return the Tables of a book with the grids of all of them, ascending by their betters; the book keeps them."""
+    if "tables" not in book.kept:
+        things, tables = book.things(), []
+        places = {thing: place for place, thing in enumerate(things)}
+        pairs = [(x, y) for x in things for y in things]
+        # The lists of the places of bits are in the order of those of their pairs.
+        for bits, grid in sorted([(bit_places(grid), grid) for grid in grids]):
+            tables.append(known_table(things, places, rows_in(grid, len(things)), [pairs[bit] for bit in bits]))
+        book.kept["tables"] = tables
+    return book.kept["tables"]
+
+
+def _farthest(grids):
+    """Return the greatest number of bits in which two grids are unlike.
+
+    For all grids at once this is counted in one integer, in which each grid has a lane of its own.
+    """
+    bits = bit_places(_union_of(grids))
+    width = len(bits).bit_length() + 1
+    each = sum([1 << at * width for at in range(len(grids))])
+    sides = {bit: sum([1 << at * width for at, grid in enumerate(grids) if grid >> bit & 1]) for bit in bits}
+    nothing, most = sum(list(sides.values())), 0
+    for grid in grids:
+        lanes = nothing + sum([each - 2 * sides[bit] for bit in bit_places(grid)])
+        # A lane with more than most comes to have its highest bit.
+        while (lanes + each * ((1 << (width - 1)) - 1 - most)) & (each << (width - 1)):
+            most = most + 1
+    return most
+
+
+def _union_of(grids):
+    """Return the bits that some grid has."""
+    union = 0
+    for grid in grids:
+        union = union | grid
+    return union

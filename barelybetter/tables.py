@@ -1,8 +1,9 @@
 """Tables: what some worths and a step say about all pairs of some things, and the patterns that none of them has."""
 
-from barelybetter.books import Book
+from barelybetter.books import known_book
 from barelybetter.ends import surely
 from barelybetter.errors import NoPair, NoTable, NoThing, Unlike, Wrong
+from barelybetter.grids import bit_places, grid_of, have_no_pattern, pairs_in, rows_in, rows_of, told_rows, turns_of
 from barelybetter.kinds import are_names, are_pairs, first_stranger, is_pair, pairs_among
 
 
@@ -18,11 +19,13 @@ class Table:
         if stranger is not None:
             raise NoThing(stranger)
         self._things = sorted(things)
+        self._places = {thing: place for place, thing in enumerate(self._things)}
         self._betters = sorted(set(betters))
-        pattern = least_pattern(self._things, self._betters)
-        if pattern is not None:
-            raise NoTable(pattern)
-        self._is_better = {pair: True for pair in self._betters}
+        self._rows = rows_of(self._things, self._betters)
+        # What was worked out for this Table, under a word for each: it never changes, so that this holds for good.
+        self.kept = {}
+        if not have_no_pattern(self._rows):
+            raise NoTable(least_pattern(self._things, self._rows))
 
     def things(self):
         """Return the things, ascending."""
@@ -34,25 +37,45 @@ class Table:
 
     def full_book(self):
         """Return the Book with the answer about each pair."""
-        return Book(self._things, [(x, y, self[x, y]) for x, y in pairs_among(self._things)])
+        if "full" not in self.kept:
+            self.kept["full"] = known_book(self._things, [(x, y, self[x, y]) for x, y in pairs_among(self._things)])
+        return self.kept["full"]
 
     def fits(self, book):
         """Return whether a Book has the same things, and only answers that the table says."""
         if self._things != book.things():
             return False
-        return all([self[x, y] == truth for x, y, truth in book.answers()])
+        told, betters = told_rows(book)
+        return [row & bits for row, bits in zip(self._rows, told)] == betters
 
     def turned(self, pair):
         """Return the Table with the answer about one pair turned."""
         if self[pair]:
-            return Table(self._things, [other for other in self._betters if other != pair])
-        return Table(self._things, self._betters + [pair])
+            betters = [other for other in self._betters if other != pair]
+        else:
+            betters = sorted(self._betters + [pair])
+        rows = rows_of(self._things, betters)
+        if not have_no_pattern(rows):
+            raise NoTable(least_pattern(self._things, rows))
+        return known_table(self._things, self._places, rows, betters)
 
     def within(self, other):
         """Return whether the other Table has the same things, and all these betters."""
         if self._things != other._things:
             return False
         return all([other[pair] for pair in self._betters])
+
+    def grid(self):
+        """Return the grid of the betters."""
+        if "grid" not in self.kept:
+            self.kept["grid"] = grid_of(self._rows)
+        return self.kept["grid"]
+
+    def turns(self):
+        """Return the grid of the pairs that can be turned alone, in whatever book."""
+        if "turns" not in self.kept:
+            self.kept["turns"] = turns_of(self._rows)
+        return self.kept["turns"]
 
     def __len__(self):
         return len(self._betters)
@@ -61,12 +84,12 @@ class Table:
         return iter(self._betters)
 
     def __getitem__(self, at):
-        if not is_pair(at) or at[0] not in self._things or at[1] not in self._things:
+        if not is_pair(at) or at[0] not in self._places or at[1] not in self._places:
             raise NoPair(at)
-        return at in self._is_better
+        return self._rows[self._places[at[0]]] >> self._places[at[1]] & 1 == 1
 
     def __eq__(self, other):
-        return isinstance(other, Table) and self._things == other._things and self._betters == other._betters
+        return isinstance(other, Table) and self._things == other._things and self._rows == other._rows
 
     def __invert__(self):
         return Table(self._things, [(y, x) for x, y in self._betters])
@@ -75,6 +98,25 @@ class Table:
         if self._things != other._things:
             raise Unlike()
         return [pair for pair in pairs_among(self._things) if self[pair] != other[pair]]
+
+
+def known_table(things, places, rows, betters):
+    """Return the Table of these things with their places, and of the rows of these betters, ascending.
+
+    None of them is changed later. Nothing is checked, so that it is made sooner than by what anybody may pass in.
+    """
+    table = Table((), ())
+    table._things = things
+    table._places = places
+    table._rows = rows
+    table._betters = betters
+    return table
+
+
+def table_in(things, grid):
+    """Return the Table that a grid of ascending things tells."""
+    places = {thing: place for place, thing in enumerate(things)}
+    return known_table(things, places, rows_in(grid, len(things)), pairs_in(things, grid))
 
 
 def table_of(scale):
@@ -105,9 +147,8 @@ def patterns_of(things, betters):
     return sorted(found)
 
 
-def least_pattern(things, betters):
-    """Return the least pattern of some pairs of ascending things, or None; there may be many things."""
-    rows = rows_of(things, betters)
+def least_pattern(things, rows):
+    """Return the least pattern of the rows of ascending things, or None; there may be many things."""
     places = _least_three(rows)
     if places is not None:
         return ("three",) + tuple([things[place] for place in places])
@@ -117,39 +158,15 @@ def least_pattern(things, betters):
     return None
 
 
-def rows_of(things, betters):
-    """Return for each thing an integer, the bits of which tell the places of the things than which it is better."""
-    places = {thing: place for place, thing in enumerate(things)}
-    rows = [0 for _ in things]
-    for x, y in betters:
-        rows[places[x]] = rows[places[x]] | (1 << places[y])
-    return rows
-
-
-def have_no_pattern(rows):
-    """Return whether rows of betters have none of the patterns."""
-    # Without "two" of each two rows one is within the other one, so that their order is that of integers.
-    ascending = sorted(rows)
-    if any([low & high != low for low, high in zip(ascending, ascending[1:])]):
-        return False
-    for row in rows:
-        inside = [other for place, other in enumerate(rows) if row >> place & 1]
-        outside = [other for place, other in enumerate(rows) if not row >> place & 1]
-        # With "three" a thing inside is better than one than which a thing outside is not.
-        if inside and max(inside) > min(outside):
-            return False
-    return True
-
-
 def _least_three(rows):
     """Return the places of the least pattern "three", or None."""
     for x, row in enumerate(rows):
-        outside = [place for place in range(len(rows)) if not row >> place & 1]
+        outside = [place for place in range(len(rows)) if row and not row >> place & 1]
         shared = _shared([rows[place] for place in outside])
-        for y in range(len(rows)):
+        for y in bit_places(row):
             # What y is better than, and some thing outside is not.
             missed = rows[y] & ~shared
-            if row >> y & 1 and missed:
+            if missed:
                 z = _lowest(missed)
                 return (x, y, z, [place for place in outside if not rows[place] >> z & 1][0])
     return None
@@ -158,7 +175,7 @@ def _least_three(rows):
 def _least_two(rows):
     """Return the places of the least pattern "two", or None."""
     for x, row in enumerate(rows):
-        others = [place for place, other in enumerate(rows) if other & ~row]
+        others = [place for place, other in enumerate(rows) if row and other & ~row]
         # What x is better than, and one that is better than something else is not.
         missed = row & ~_shared([rows[place] for place in others])
         if missed:

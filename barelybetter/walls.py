@@ -1,26 +1,24 @@
 """Walls: the answers of a table that can be turned alone, so that a table is left that fits the book."""
 
 from barelybetter.errors import Unfit
+from barelybetter.grids import bit_places, grid_with, pairs_in, told_grid
 from barelybetter.rings import refuse_ring
-from barelybetter.tables import have_no_pattern
+from barelybetter.tables import table_in
 
 
 def walls_of(book, table):
     """Return the walls of a table in a book, ascending."""
-    refuse_unfit(book, [table])
-    bits = bits_of(table.things())
-    grid = grid_of(table)
-    return [pair for pair in book.untold() if is_grid(len(table.things()), grid ^ bits[pair])]
+    return pairs_in(book.things(), _turns_in(book, table))
 
 
 def turns_alone(book, table, pair):
     """Return whether a pair is a wall of a table in a book."""
-    return pair in walls_of(book, table)
+    return _turns_in(book, table) & grid_with(book.things(), [pair]) != 0
 
 
 def neighbours(book, table):
     """Return the Tables with the answer about one wall turned, in the order of the walls."""
-    return [table.turned(pair) for pair in walls_of(book, table)]
+    return [table_in(table.things(), table.grid() ^ 1 << bit) for bit in bit_places(_turns_in(book, table))]
 
 
 def refuse_unfit(book, tables):
@@ -30,19 +28,7 @@ def refuse_unfit(book, tables):
         raise Unfit()
 
 
-def bits_of(things):
-    """Return the bit of each pair of ascending things in a grid, which is an integer that keeps betters."""
-    many = len(things)
-    return {(x, y): 1 << (i * many + j) for i, x in enumerate(things) for j, y in enumerate(things) if i != j}
-
-
-def grid_of(table):
-    """Return the grid of the betters of a table."""
-    bits = bits_of(table.things())
-    return sum([bits[pair] for pair in table])
-
-
-def is_grid(many, grid):
-    """Return whether a grid of so many things is that of a table."""
-    row = (1 << many) - 1
-    return have_no_pattern([grid >> (place * many) & row for place in range(many)])
+def _turns_in(book, table):
+    """Return the grid of the walls of a table in a book."""
+    refuse_unfit(book, [table])
+    return table.turns() & ~told_grid(book)

@@ -1,7 +1,8 @@
 """Ways from one table that fits a book to another one, by single turned answers."""
 
+from barelybetter.grids import bit_places, have_no_pattern, rows_in
 from barelybetter.tables import Table
-from barelybetter.walls import bits_of, grid_of, is_grid, refuse_unfit, walls_of
+from barelybetter.walls import refuse_unfit, walls_of
 
 
 def way_between(book, one, other):
@@ -30,12 +31,12 @@ def is_way(book, one, other, thing):
 def count_ways(book, one, other):
     """Return how many ways there are from one table to the other one."""
     refuse_unfit(book, [one, other])
-    bits = bits_of(one.things())
-    turns = [bits[pair] for pair in one ^ other]
-    counts = {grid_of(one): 1}
+    goal = other.grid()
+    turns = [1 << bit for bit in bit_places(one.grid() ^ goal)]
+    counts = {one.grid(): 1}
     for _ in turns:
-        counts = _one_turn_on(counts, turns, grid_of(other), len(one.things()))
-    return counts[grid_of(other)]
+        counts = _one_turn_on(counts, turns, goal, len(one.things()))
+    return counts[goal]
 
 
 def first_turns(book, one, other):
@@ -50,6 +51,6 @@ def _one_turn_on(counts, turns, goal, many):
     for grid in counts:
         for bit in turns:
             nearer = grid ^ bit
-            if (grid ^ goal) & bit and (nearer in found or is_grid(many, nearer)):
+            if (grid ^ goal) & bit and (nearer in found or have_no_pattern(rows_in(nearer, many))):
                 found[nearer] = found.get(nearer, 0) + counts[grid]
     return found

@@ -3,9 +3,10 @@
 import unittest
 
 from barelybetter.books import Book
-from barelybetter.ends import open_pairs
+from barelybetter.ends import codes_with, open_pairs
 from barelybetter.errors import Ring
-from barelybetter.heaviest import heaviest, heaviest_walk, heaviest_weights, weights_with
+from barelybetter.heaviest import heaviest, heaviest_walk
+from barelybetter.layers import codes_of
 from barelybetter.rings import is_possible, ring_of
 from barelybetter.walks import is_walk, weight_of
 from tests import oracle
@@ -78,15 +79,15 @@ class HeaviestTest(unittest.TestCase):
         # f over d, d over b, a step back from b to c, c over a.
         self.assertEqual(heaviest(book, "f", "a"), (2, 3))
 
-    def test_weights_with_an_answer_more(self):
+    def test_codes_with_an_answer_more(self):
         for book in oracle.all_books(["a", "b", "c"])[::3] + oracle.some_books(["a", "b", "c", "d", "e", "f"], 10, 104):
             if is_possible(book):
-                weights = heaviest_weights(book)
+                codes = repr(codes_of(book))
                 for x, y in open_pairs(book):
                     for truth in (True, False):
-                        more = heaviest_weights(book.put((x, y, truth)))
-                        self.assertEqual(weights_with(weights, (x, y, truth)), more)
-                self.assertEqual(weights, heaviest_weights(Book(book.things(), book.answers())))
+                        more = codes_with(codes_of(book), book.things(), (x, y, truth))
+                        self.assertEqual(more, codes_of(book.put((x, y, truth))))
+                self.assertEqual(repr(codes_of(book)), codes)
 
     def test_ring(self):
         book = Book(["a", "b", "c"], [("a", "b", True), ("b", "a", True)])
