@@ -73,6 +73,42 @@ def pairs_in(things, grid):
     return [(things[bit // many], things[bit % many]) for bit in bit_places(grid)]
 
 
+def turns_by_grid(book, word, first_of, turns, most):
+    """Return for each grid to which single turns lead from the first one those turns; None for more grids than most.
+
+    The first grid is told by a function of the book, first_of, and what can be turned by a function of rows, turns;
+    what the book has answers about is not turned. The book keeps under a word what was found, not to be changed.
+    """
+    more = word + ", more than"
+    if word not in book.kept and book.kept.get(more, 0) < most:
+        found = _gather(first_of(book), len(book.things()), told_grid(book), turns, most)
+        if found is None:
+            book.kept[more] = most
+        else:
+            book.kept[word] = found
+    if word not in book.kept or len(book.kept[word]) > most:
+        return None
+    return book.kept[word]
+
+
+def _gather(first, many, told, turns, most):
+    """Return for each grid to which single turns lead from the first one those turns, or None for more than most."""
+    found, waiting = {first: 0}, [first]
+    while waiting:
+        grid = waiting.pop()
+        left = turns(rows_in(grid, many)) & ~told
+        found[grid] = left
+        while left:
+            turned = grid ^ (left & -left)
+            left = left & (left - 1)
+            if turned not in found:
+                if len(found) == most:
+                    return None
+                found[turned] = 0
+                waiting.append(turned)
+    return found
+
+
 def have_no_pattern(rows):
     """Return whether rows have none of the patterns, so that they are those of a table."""
     # Without "two" of each two rows one is within the other one, so that their order is that of integers.

@@ -10,6 +10,18 @@ from barelybetter.kinds import ends_of
 NOWHERE = -1000000000000000000000000000000000000000000000000000000000000
 
 
+def outs_of(book):
+    """Return for each place what leads from it."""
+    if "outs" not in book.kept:
+        places = {thing: place for place, thing in enumerate(book.things())}
+        outs = [[] for _ in places]
+        for answer in book:
+            start, end = ends_of(answer)
+            outs[places[start]].append((places[end], 1 if answer[2] else -1, answer))
+        book.kept["outs"] = outs
+    return book.kept["outs"]
+
+
 def code_of(steps, betters, many):
     """Return the one integer that tells a weight of a walk among so many things; the greater weight has more."""
     # No walk that is asked for here has more betters than there are things.
@@ -25,7 +37,7 @@ def weight_of_code(code, many):
 def codes_of(book):
     """Return rows of the codes of the greatest weights of walks from each place to each one, or None for a ring."""
     if "codes" not in book.kept:
-        book.kept["codes"] = greatest_rows(_first_codes(book))
+        book.kept["codes"] = greatest_rows(first_codes(book.things(), book.answers()))
     return book.kept["codes"]
 
 
@@ -39,7 +51,7 @@ def weights_of(book):
 def least_ring(book):
     """Return the least of the rings of the fewest answers; there has to be one."""
     if "ring" not in book.kept:
-        book.kept["ring"] = least_round(_outs_of(book))
+        book.kept["ring"] = least_round(outs_of(book))
     return book.kept["ring"]
 
 
@@ -54,13 +66,25 @@ def fewest_walk(book, ends, steps):
     many = 1
     while _columns_of(book, last, many)[many][start] < steps:
         many = many + 1
-    return _walk_along(_outs_of(book), _columns_of(book, last, many)[:many], start, steps)
+    return _walk_along(outs_of(book), _columns_of(book, last, many)[:many], start, steps)
 
 
 def least_walk(book, many, ends, steps):
     """Return the least walk of just so many answers with these ends and at least so many steps; there has to be one."""
     start, last = _places_in(book, ends)
-    return _walk_along(_outs_of(book), _columns_of(book, last, many)[:many], start, steps)
+    return _walk_along(outs_of(book), _columns_of(book, last, many)[:many], start, steps)
+
+
+def first_codes(things, answers):
+    """Return rows of what answers about things alone tell of the codes of walks from each place to each one."""
+    many = len(things)
+    places = {thing: place for place, thing in enumerate(things)}
+    rows = [[NOWHERE] * many for _ in things]
+    for answer in answers:
+        start, end = ends_of(answer)
+        row = rows[places[start]]
+        row[places[end]] = max(row[places[end]], code_of_answer(answer, many))
+    return rows
 
 
 def greatest_rows(rows):
@@ -123,21 +147,6 @@ def least_round(outs):
     return None
 
 
-def _first_codes(book):
-    """Return rows of what the answers alone tell of the weights of walks from each place to each one."""
-    things = book.things()
-    many = len(things)
-    better, other = code_of(1, 1, many), code_of(-1, 0, many)
-    places = {thing: place for place, thing in enumerate(things)}
-    rows = [[NOWHERE] * many for _ in things]
-    for x, y, truth in book:
-        if truth:
-            rows[places[x]][places[y]] = better
-        elif rows[places[y]][places[x]] == NOWHERE:
-            rows[places[y]][places[x]] = other
-    return rows
-
-
 def _weights_of(book):
     """Return the greatest weights of walks by their ends, of a possible book."""
     things = book.things()
@@ -154,7 +163,7 @@ def _columns_of(book, last, many):
         found[last] = [_first_column(len(book.things()), last)]
     columns = found[last]
     while len(columns) <= many:
-        columns.append(_next_column(_outs_of(book), columns[-1]))
+        columns.append(_next_column(outs_of(book), columns[-1]))
     return columns
 
 
@@ -194,18 +203,6 @@ def _least_answer(out, column, steps):
         if column[end] != NOWHERE and step + column[end] >= steps:
             return (end, step, answer)
     return None
-
-
-def _outs_of(book):
-    """Return for each place what leads from it."""
-    if "outs" not in book.kept:
-        places = {thing: place for place, thing in enumerate(book.things())}
-        outs = [[] for _ in places]
-        for answer in book:
-            start, end = ends_of(answer)
-            outs[places[start]].append((places[end], 1 if answer[2] else -1, answer))
-        book.kept["outs"] = outs
-    return book.kept["outs"]
 
 
 def _places_in(book, ends):

@@ -5,12 +5,12 @@ from barelybetter.grids import grid_with
 from barelybetter.kinds import is_pair
 from barelybetter.layers import codes_of
 from barelybetter.rings import refuse_ring
-from barelybetter.spaces import turns_by_grid
+from barelybetter.spaces import grids_of
 
 
 def best_question(book, *, most=400):
     """Return the open pair of which the commoner answer leaves the fewest tables, or None."""
-    grids = list(turns_by_grid(book, most))
+    grids = list(grids_of(book, most))
     if "question" not in book.kept:
         found = []
         for pair in open_pairs(book):
@@ -39,7 +39,7 @@ def is_asking(book, thing):
 
 def _least_asking(book, most):
     """Return the least depth of an asking of a book, and an asking of this depth."""
-    grids = list(turns_by_grid(book, most))
+    grids = list(grids_of(book, most))
     if "asking" not in book.kept:
         # Some of the tables are told by an integer: its bit k tells whether table k is one of them.
         sides = {}

@@ -1,7 +1,7 @@
 """Spaces: all tables that fit a book, and how they hang together."""
 
 from barelybetter.errors import NoNumber, TooMany, Unfit
-from barelybetter.grids import bit_places, count_of, grid_with, rows_in, told_grid, turns_of
+from barelybetter.grids import bit_places, count_of, grid_with, rows_in, turns_by_grid, turns_of
 from barelybetter.kinds import is_integer
 from barelybetter.rings import refuse_ring
 from barelybetter.scales import plainest
@@ -12,7 +12,7 @@ class Space:
     """All tables that fit a book."""
 
     def __init__(self, book, *, most=400):
-        self._turns = turns_by_grid(book, most)
+        self._turns = grids_of(book, most)
         self._book = book
         self._tables = _tables_of(book, list(self._turns))
         self._numbers = {table.grid(): number for number, table in enumerate(self._tables)}
@@ -71,38 +71,22 @@ class Space:
         return self._tables[at]
 
 
-def turns_by_grid(book, most):
+def grids_of(book, most):
     """Return for the grid of each table that fits a book that of its walls; raise TooMany if there are more than most.
 
     The book keeps it: it is not to be changed.
     """
     refuse_ring(book)
-    if "turns" not in book.kept and book.kept.get("more", 0) < most:
-        _gather(book, most)
-    if "turns" not in book.kept or len(book.kept["turns"]) > most:
-        raise TooMany(most)
-    return book.kept["turns"]
-
-
-def _gather(book, most):
-    """Let a book keep the walls of its tables by their grids, or that it has more of them than most."""
-    many, told = len(book.things()), told_grid(book)
-    first = table_of(plainest(book)).grid()
-    found, waiting = {first: 0}, [first]
     # Single turned answers lead from each table to all others [6].
-    while waiting:
-        grid = waiting.pop()
-        found[grid] = left = turns_of(rows_in(grid, many)) & ~told
-        while left:
-            turned = grid ^ (left & -left)
-            left = left & (left - 1)
-            if turned not in found:
-                if len(found) == most:
-                    book.kept["more"] = most
-                    return
-                found[turned] = 0
-                waiting.append(turned)
-    book.kept["turns"] = found
+    found = turns_by_grid(book, "tables by grids", _plainest_grid, turns_of, most)
+    if found is None:
+        raise TooMany(most)
+    return found
+
+
+def _plainest_grid(book):
+    """Return the grid of the table that plainest tells."""
+    return table_of(plainest(book)).grid()
 
 
 def _tables_of(book, grids):

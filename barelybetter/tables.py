@@ -152,6 +152,11 @@ def least_pattern(things, rows):
     places = _least_three(rows)
     if places is not None:
         return ("three",) + tuple([things[place] for place in places])
+    return least_two(things, rows)
+
+
+def least_two(things, rows):
+    """Return the least pattern "two" of the rows of ascending things, or None; there may be many things."""
     places = _least_two(rows)
     if places is not None:
         return ("two",) + tuple([things[place] for place in places])

@@ -81,6 +81,32 @@ STAGE_6 = STAGE_5 + """
 [3, ('a', 'b'), 2, True]
 """
 
+STAGE_7 = STAGE_6 + """
+>>> from barelybetter.judges import Judges
+>>> from barelybetter.wrong import fewest_wrong, is_tree, left_outs, tree_for
+>>> [fewest_wrong(worse), len(left_outs(worse)), is_tree(worse, 0, (ring_of(worse), [])), tree_for(worse, 1)]
+[1, 3, True, None]
+>>> fine = Book(["a", "b", "c"], [("a", "b", True), ("b", "c", True)])
+>>> both = Judges(fine, Book(["a", "b", "c"], [("a", "c", False)]))
+>>> [both.limits(), both.rounds()[1], both.is_sure(1, ("a", "b", False))]
+[((2, 1), None), None, True]
+>>> [scale.worths() for scale in both.scales_at(3, 1)]
+[{'a': 8, 'b': 4, 'c': 0}, {'a': 8, 'b': 4, 'c': 0}]
+"""
+
+STAGE_8 = STAGE_7 + """
+>>> from barelybetter.menus import choose, leaders_of, menus_surely
+>>> from barelybetter.stretches import plain_stretches, stretch_ring
+>>> beside = Book(["a", "b", "c", "d"], [("a", "b", True), ("b", "c", True), ("a", "d", False), ("d", "c", False)])
+>>> [len(ring_of(beside)), stretch_ring(beside), plain_stretches(beside)]
+[4, None, {'a': (2, 2), 'b': (1, 1), 'c': (0, 0), 'd': (0, 2)}]
+>>> scale = Scale({"a": 2, "b": 1, "c": 0}, 1)
+>>> [choose(scale, ["b", "c"]), choose(scale, ["a", "c"]), leaders_of(["a", "b", "c"], [(("a", "b", "c"), ("a", "b"))])]
+[['b', 'c'], ['a'], [['a'], ['b']]]
+>>> menus_surely(["a", "b", "c"], [(("a", "b", "c"), ("a", "b"))]).answers()
+[('a', 'b', False), ('b', 'a', False), ('c', 'a', False), ('c', 'b', False)]
+"""
+
 
 class ExamplesTest(unittest.TestCase):
 
@@ -108,6 +134,12 @@ class ExamplesTest(unittest.TestCase):
 
     def test_stage_6(self):
         self.holds(STAGE_6)
+
+    def test_stage_7(self):
+        self.holds(STAGE_7)
+
+    def test_stage_8(self):
+        self.holds(STAGE_8)
 
 
 if __name__ == "__main__":

@@ -26,6 +26,15 @@ FILES = {
     "spaces": ("Space(book, *, most=400)",),
     "questions": ("best_question(book, *, most=400)", "fewest_questions(book, *, most=20)",
                   "asking(book, *, most=20)", "is_asking(book, thing)"),
+    "wrong": ("fewest_wrong(book)", "left_outs(book)", "surely_wrong(book)", "possibly_wrong(book)",
+              "tree_for(book, many)", "is_tree(book, many, thing)"),
+    "judges": ("Judges(one, other)",),
+    "stretches": ("stretch_ring(book)", "is_stretch_ring(book, thing)", "fit_stretches(book, thing)",
+                  "plain_stretches(book)", "stretch_surely(book)", "walls_of_stretches(book, betters)",
+                  "pins_of_stretches(book, betters)", "count_stretches(book, *, most=400)"),
+    "menus": ("is_menu(thing)", "fit_menus(things, menus)", "is_menu_tree(things, menus, thing)",
+              "choose(scale, things)", "menu_answers(menu, leader)", "leaders_of(things, menus)",
+              "menus_surely(things, menus)", "menu_tree(things, menus)"),
 }
 
 METHODS = {
@@ -42,6 +51,9 @@ METHODS = {
     "spaces.Space": (
         "__len__", "__contains__", "__iter__", "__getitem__", "book", "listed(self)", "between(self, one, other)",
         "number(self, table)", "links(self)", "farthest(self)", "counts(self, pair)"),
+    "judges.Judges": (
+        "limits(self)", "rounds(self)", "is_sure(self, side, answer)", "surely(self, side)", "round_at(self, a, b)",
+        "is_round_at(self, a, b, thing)", "scales_at(self, a, b)"),
 }
 
 
