@@ -68,18 +68,19 @@ class Judges:
         """Return the Book of all sure answers of one of both judges."""
         cells = self._possible_cells()
         if "sure" not in self.kept:
-            rows = [(a, b, self._rows_at(a, b)) for _, (a, b), _ in cells]
-            self.kept["sure"] = [known_book(self._things, self._shared([(b, told) for a, b, told in rows])),
-                                 known_book(self._things, self._shared([(a, told) for a, b, told in rows]))]
+            numbers = [cell[1] for cell in cells]
+            rows = [self._rows_at(a, b) for a, b in numbers]
+            steps = [[b for _, b in numbers], [a for a, _ in numbers]]
+            self.kept["sure"] = [self._shared(rows, row) for row in steps]
         return self.kept["sure"][side]
 
-    def _shared(self, rows):
-        """Return the answers that all of some rows make sure, each with the step of a better, ascending."""
+    def _shared(self, rows, steps):
+        """Return the Book of the answers that all of some rows make sure, with the step of a better for each."""
         counts = {}
-        for step, told in rows:
-            for answer in told_by(self._things, told, step * self._many()):
+        for one, step in zip(rows, steps):
+            for answer in told_by(self._things, one, step * self._many()):
                 counts[answer] = counts.get(answer, 0) + 1
-        return [answer for answer in sorted(counts) if counts[answer] == len(rows)]
+        return known_book(self._things, [answer for answer in sorted(counts) if counts[answer] == len(rows)])
 
     def _possible_cells(self):
         """Return the cells of the steps that are possible, in their order, or raise NoRatio; the Judges keep them."""

@@ -107,6 +107,18 @@ STAGE_8 = STAGE_7 + """
 [('a', 'b', False), ('b', 'a', False), ('c', 'a', False), ('c', 'b', False)]
 """
 
+STAGE_9 = STAGE_8 + """
+>>> from barelybetter.desk import Desk
+>>> from barelybetter.logs import Log
+>>> desk = Desk(["tea", "milk"])
+>>> [desk.execute(line) for line in ("say tea better milk", "say milk better tea", "apart tea milk", "tables", "why milk not tea")]
+['ok', 'ring milk better tea, tea better milk', '1, none', '1', 'tea better milk']
+>>> log = Log(free)
+>>> log["a", "b"] = True
+>>> [log["a", "b"], log.back(), len(log), log["a", "b"]]
+[True, ('say', ('a', 'b'), True), 0, None]
+"""
+
 
 class ExamplesTest(unittest.TestCase):
 
@@ -140,6 +152,9 @@ class ExamplesTest(unittest.TestCase):
 
     def test_stage_8(self):
         self.holds(STAGE_8)
+
+    def test_stage_9(self):
+        self.holds(STAGE_9)
 
 
 if __name__ == "__main__":

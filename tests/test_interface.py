@@ -35,6 +35,11 @@ FILES = {
     "menus": ("is_menu(thing)", "fit_menus(things, menus)", "is_menu_tree(things, menus, thing)",
               "choose(scale, things)", "menu_answers(menu, leader)", "leaders_of(things, menus)",
               "menus_surely(things, menus)", "menu_tree(things, menus)"),
+    "notation": ("show_answer(answer)", "show_walk(walk)", "show_book(book)", "show_table(table)", "show_scale(scale)",
+                 "show_end(end)"),
+    "readers": ("read_answer(text)", "read_walk(text)", "read_book(text)", "read_table(text)", "read_scale(text)"),
+    "logs": ("Log(book)",),
+    "desk": ("Desk(things)",),
 }
 
 METHODS = {
@@ -54,6 +59,10 @@ METHODS = {
     "judges.Judges": (
         "limits(self)", "rounds(self)", "is_sure(self, side, answer)", "surely(self, side)", "round_at(self, a, b)",
         "is_round_at(self, a, b, thing)", "scales_at(self, a, b)"),
+    "logs.Log": (
+        "__eq__", "__len__", "__getitem__", "__setitem__", "MOST", "book", "first", "do(self, deed)", "deeds(self)",
+        "back(self)", "again(self)", "past(self, many)", "copied(self)", "trial(self, act)"),
+    "desk.Desk": ("execute(self, line)",),
 }
 
 
