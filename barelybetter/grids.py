@@ -5,8 +5,6 @@ for each place: its bits tell the places than which this one is better. A grid i
 of the last place first: its bits tell pairs, the lowest one the least pair.
 """
 
-from barelybetter.kinds import pair_of
-
 
 def rows_of(things, betters):
     """Return the rows of some betters among ascending things."""
@@ -39,8 +37,8 @@ def grid_with(things, pairs):
 def told_rows(book):
     """Return the rows of the pairs that a book has answers about, and those of the betters among them."""
     if "told" not in book.kept:
-        pairs = [pair_of(answer) for answer in book]
-        betters = [pair for pair in pairs if book[pair]]
+        pairs = [(x, y) for x, y, _ in book]
+        betters = [(x, y) for x, y, truth in book if truth]
         book.kept["told"] = (rows_of(book.things(), pairs), rows_of(book.things(), betters))
     return book.kept["told"]
 

@@ -139,8 +139,7 @@ def least_round(outs):
     columns = [[_first_column(len(outs), place)] for place in range(len(outs))]
     # Such a walk of the fewest answers goes through no place twice.
     for _ in outs:
-        for last in columns:
-            last.append(_next_column(outs, last[-1]))
+        columns = [last + [_next_column(outs, last[-1])] for last in columns]
         found = [_walk_along(outs, last[:-1], place, 0) for place, last in enumerate(columns) if last[-1][place] >= 0]
         if found:
             return min(found)

@@ -116,6 +116,32 @@ class LanguageTest(unittest.TestCase):
                 elif isinstance(node, ast.Name) and node.id in taken:
                     self.assertIn(node.id, BUILTINS, file.name)
 
+    def test_no_local_name_is_an_import(self):
+        for file, tree in trees():
+            imports = {alias.name for node in tree.body if isinstance(node, ast.ImportFrom) for alias in node.names}
+            for node in ast.walk(tree):
+                if isinstance(node, ast.arg):
+                    self.assertNotIn(node.arg, imports, file.name)
+                elif isinstance(node, ast.Name) and isinstance(node.ctx, ast.Store):
+                    self.assertNotIn(node.id, imports, file.name)
+
+    def test_names_that_are_not_used(self):
+        barred = {"register", "mro", "elements", "open", "input", "law", "args", "format", "sort", "keys"}
+        for file, tree in trees():
+            for node in ast.walk(tree):
+                for name in (getattr(node, "name", None), getattr(node, "id", None), getattr(node, "arg", None)):
+                    self.assertNotIn(name, barred, file.name)
+                    self.assertFalse(str(name).startswith(("_wall", "_lay_", "_law_", "_enum_", "_cm_", "_sre")), name)
+                if isinstance(node, ast.Attribute):
+                    self.assertNotIn(node.attr, barred, file.name)
+
+    def test_finally_puts_names_only(self):
+        for place, node in nodes(ast.Try):
+            for one in node.finalbody:
+                self.assertTrue(isinstance(one, ast.Assign) and isinstance(one.value, ast.Name), place)
+            for one in node.handlers:
+                self.assertIsNotNone(one.type, place)
+
     def test_attributes(self):
         own = {node.name for _, node in nodes(ast.FunctionDef)} | {
             node.attr for _, node in nodes(ast.Attribute) if isinstance(node.ctx, ast.Store)} | {
