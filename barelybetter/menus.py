@@ -43,11 +43,12 @@ def fit_menus(things, menus):
 def menus_surely(things, menus):
     """Return the Book of the answers that are so for all worths that fit all menus."""
     ascending, counts = sorted(things), {}
-    led = _led(ascending, menus)
+    # Other leaders may have the same codes.
+    led = {_key_of(codes): codes for _, codes in _led(ascending, menus)}
     if len(led) == 0:
         raise NoWorths()
-    for _, codes in led:
-        for answer in sure_answers(ascending, greatest_rows(codes)):
+    for key in led:
+        for answer in sure_answers(ascending, greatest_rows(led[key])):
             counts[answer] = counts.get(answer, 0) + 1
     return known_book(ascending, [answer for answer in sorted(counts) if counts[answer] == len(led)])
 
@@ -66,13 +67,26 @@ def is_menu_tree(things, menus, thing):
 
 def _led(things, menus):
     """Return all lists of leaders with which some worths fit, ascending: tuples (leaders, codes of their answers)."""
-    found = [([], first_codes(things, []))]
+    found, known = [([], first_codes(things, []))], {}
     for menu in menus:
         own = [(leader, first_codes(things, menu_answers(menu, leader))) for leader in menu[1]]
         longer = [(leaders + [leader], _greater_of(codes, more)) for leaders, codes in found for leader, more in own]
-        # Two answers that contradict each other lead round, too.
-        found = [(leaders, codes) for leaders, codes in longer if greatest_rows(codes) is not None]
+        found = [(leaders, codes) for leaders, codes in longer if _are_possible(codes, known)]
     return found
+
+
+def _are_possible(codes, known):
+    """Return whether the answers of some codes are possible; it is known for codes that were asked about before."""
+    key = _key_of(codes)
+    if key not in known:
+        # Two answers that contradict each other lead round, too.
+        known[key] = greatest_rows(codes) is not None
+    return known[key]
+
+
+def _key_of(codes):
+    """Return a key that tells codes."""
+    return tuple([code for row in codes for code in row])
 
 
 def _greater_of(codes, others):

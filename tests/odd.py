@@ -22,6 +22,13 @@ def are_things(value):
                for one in value) and len(value) == len(set(value))
 
 
+def lists_in(value):
+    """Return all lists within a value, also those within others."""
+    if not isinstance(value, (list, tuple)):
+        return []
+    return ([value] if isinstance(value, list) else []) + [one for part in value for one in lists_in(part)]
+
+
 def deep(many):
     """Return a list nested so many deep."""
     value = []

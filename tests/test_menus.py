@@ -13,6 +13,7 @@ from barelybetter.menus import (
 from barelybetter.rings import is_ring
 from barelybetter.scales import Scale
 from tests import odd, oracle
+from tests.odd import lists_in
 
 AB, ABC, FOUR = ["a", "b"], ["a", "b", "c"], ["a", "b", "c", "d"]
 SIX = ["a", "b", "c", "d", "e", "f"]
@@ -299,13 +300,6 @@ class TreesTest(unittest.TestCase):
 
 def words_in(tree):
     return {tree[0]} | {word for one in tree[1] for word in words_in(one)} if tree[0] == "lead" else {tree[0]}
-
-
-def lists_in(value):
-    """Return all lists within a value."""
-    if not isinstance(value, (list, tuple)):
-        return []
-    return ([value] if isinstance(value, list) else []) + [one for part in value for one in lists_in(part)]
 
 
 if __name__ == "__main__":

@@ -315,6 +315,20 @@ class CountTest(unittest.TestCase):
 
 class OverAllTest(unittest.TestCase):
 
+    def test_betters_of_stretches_have_just_no_pattern_two(self):
+        """[9], [80]"""
+        pairs = Book(ABC).untold()
+        told = {betters for _, betters in all_stretches(tuple(ABC))}
+        for many in range(len(pairs) + 1):
+            for betters in itertools.combinations(pairs, many):
+                self.assertEqual(frozenset(betters) in told, twos(ABC, set(betters)) == [])
+                if twos(ABC, set(betters)):
+                    self.assertEqual(caught(walls_of_stretches, Book(ABC), list(betters)).pattern, twos(ABC, set(betters))[0])
+                else:
+                    self.assertEqual(plain_stretches(Book(ABC, [(*pair, pair in betters) for pair in pairs])), {
+                        thing: tuple(min(ends[thing][at] for ends, found in all_stretches(tuple(ABC))
+                                         if found == frozenset(betters)) for at in (0, 1)) for thing in ABC})
+
     def test_turned_about_and_with_other_names(self):
         """[10], [12], [13]"""
         turn = dict(zip(SIX, ["zoo", "d", "b", "yak", "a", "c"]))

@@ -9,6 +9,7 @@ from barelybetter.books import Book
 from barelybetter.rings import is_possible, is_ring, ring_of
 from barelybetter.wrong import fewest_wrong, is_tree, left_outs, possibly_wrong, surely_wrong, tree_for
 from tests import odd, oracle
+from tests.odd import lists_in
 
 ABC = ["a", "b", "c"]
 FOUR = ["a", "b", "c", "d"]
@@ -244,13 +245,6 @@ class TreesTest(unittest.TestCase):
             if not is_possible(book):
                 self.assertIs(is_tree(book, 0, (ring_of(book), [])), True)
                 self.assertIs(is_ring(book, tree_for(book, 0)[0]), True)
-
-
-def lists_in(value):
-    """Return all lists within a value."""
-    if not isinstance(value, (list, tuple)):
-        return []
-    return ([value] if isinstance(value, list) else []) + [one for part in value for one in lists_in(part)]
 
 
 if __name__ == "__main__":
