@@ -165,6 +165,10 @@ class LimitsTest(unittest.TestCase):
         self.assertEqual(turned.limits(), ((0, 1), (1, 2)))
         self.assertEqual((turned.rounds()[0], weight(turned.rounds()[1])), (None, (-1, 2)))
         self.assertEqual(weight(BOTH.rounds()[0]), (2, -1))
+        # Ends as near to nothing, and as far from it, as three things can have them.
+        one, other = Book(ABC, [("a", "b", False), ("b", "c", False)]), Book(ABC, [("a", "c", True)])
+        self.assertEqual((Judges(one, other).limits(), Judges(other, one).limits()), (((0, 1), (2, 1)), ((1, 2), None)))
+        self.assertEqual((weight(Judges(one, other).rounds()[1]), weight(Judges(other, one).rounds()[0])), ((-2, 1), (1, -2)))
 
     def test_against_all_rounds(self):
         rows = drawn_pairs(AB, 40, 161) + drawn_pairs(ABC, 80, 162) + drawn_pairs(FOUR, 60, 163)
