@@ -97,7 +97,8 @@ class Table:
     def __xor__(self, other):
         if self._things != other._things:
             raise Unlike()
-        return [pair for pair in pairs_among(self._things) if self[pair] != other[pair]]
+        unlike = [one ^ two for one, two in zip(self._rows, other._rows)]
+        return [(x, self._things[place]) for x, row in zip(self._things, unlike) for place in bit_places(row)]
 
 
 def known_table(things, places, rows, betters):
